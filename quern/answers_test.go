@@ -120,6 +120,10 @@ func TestWrongArgumentsAnswerNothing(t *testing.T) {
 		if e.Kind != api.OK && r != nil || e.Kind == api.OK && e.Line != 0 {
 			t.Errorf("P1: Read of %d bytes: %d rows, %v", len(s), len(r), e)
 		}
+		a, e := Analyze(s, api.Config{})
+		if e.Kind != api.OK && a != (api.Result{}) || e.Kind == api.OK && e.Line != 0 {
+			t.Errorf("P1: Analyze of %d bytes: %+v, %v", len(s), a, e)
+		}
 		p, e := Print([]api.Fact{{Kind: api.Copy, P: s, Q: s}})
 		if e.Kind != api.OK && p != "" || e.Kind == api.OK && e.Line != 0 {
 			t.Errorf("P1: Print of %d bytes: %q, %v", len(s), p, e)

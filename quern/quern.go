@@ -4,6 +4,7 @@ package quern
 import (
 	"quern/api"
 	"quern/facts"
+	"quern/points"
 	"quern/rows"
 )
 
@@ -14,7 +15,7 @@ func Parse(file string) ([]api.Fact, api.Error) { return facts.Parse(file) }
 func Print(l []api.Fact) (string, api.Error) { return facts.Print(l) }
 
 // Analyze finds out what each name of a file may point to (P5).
-func Analyze(file string, c api.Config) (api.Result, api.Error) { return api.Result{}, api.Error{} }
+func Analyze(file string, c api.Config) (api.Result, api.Error) { return points.Analyze(file, c) }
 
 // Read reads a solution (P7).
 func Read(text string) ([]api.Row, api.Error) { return rows.Read(text) }

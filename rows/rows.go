@@ -46,7 +46,7 @@ func Tell(list []api.Row) (string, api.Error) {
 	if size > api.MaxText {
 		return "", api.Error{Kind: api.ErrLong}
 	}
-	return write(list), api.Error{}
+	return Write(list), api.Error{}
 }
 
 // check tells the first error of a row that stands behind the one named ahead
@@ -102,7 +102,8 @@ func width(row api.Row) int {
 	return size
 }
 
-func write(list []api.Row) string {
+// Write writes rows as they are: they are to be known to be without an error.
+func Write(list []api.Row) string {
 	var text strings.Builder
 	for _, row := range list {
 		text.WriteString(row.Name)

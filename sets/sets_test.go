@@ -1,0 +1,133 @@
+package sets
+
+import (
+	"math/rand"
+	"slices"
+	"testing"
+)
+
+func setOf[T Number](list ...T) *Set[T] {
+	s := &Set[T]{}
+	for _, n := range list {
+		s.Add(n)
+	}
+	return s
+}
+
+func check[T Number](t *testing.T, what string, s *Set[T], want ...T) {
+	t.Helper()
+	if got := slices.Collect(s.All()); !slices.Equal(got, want) {
+		t.Errorf("%s: %v, want %v", what, got, want)
+	}
+}
+
+func TestAdd(t *testing.T) {
+	var s Set[uint]
+	check(t, "empty", &s)
+	for _, n := range []uint{64, 0, 63, 200, 65, 7} {
+		if !s.Add(n) {
+			t.Errorf("%d is told not to be new", n)
+		}
+		if s.Add(n) {
+			t.Errorf("%d is told to be new twice", n)
+		}
+	}
+	check(t, "added", &s, 0, 7, 63, 64, 65, 200)
+}
+
+func TestSmallNumbers(t *testing.T) {
+	check(t, "the ends of a byte", setOf[uint8](255, 0, 128), 0, 128, 255)
+}
+
+func TestRemove(t *testing.T) {
+	s := setOf[uint](1, 64, 65)
+	s.Remove(64)
+	s.Remove(2)
+	s.Remove(128)
+	s.Remove(1 << 40)
+	check(t, "removed", s, 1, 65)
+	if !s.Add(64) {
+		t.Error("a number that was removed is told to be there")
+	}
+}
+
+func TestUnite(t *testing.T) {
+	for _, c := range []struct {
+		a, b, want []uint
+		grown      bool
+	}{
+		{nil, nil, nil, false},
+		{nil, []uint{3}, []uint{3}, true},
+		{[]uint{3}, nil, []uint{3}, false},
+		{[]uint{3, 5}, []uint{3}, []uint{3, 5}, false},
+		{[]uint{3, 70}, []uint{3}, []uint{3, 70}, false},
+		{[]uint{3}, []uint{3, 70}, []uint{3, 70}, true},
+		{[]uint{70}, []uint{3, 70}, []uint{3, 70}, true},
+		{[]uint{1, 200}, []uint{1, 200}, []uint{1, 200}, false},
+	} {
+		a, b := setOf(c.a...), setOf(c.b...)
+		if grown := a.Unite(b); grown != c.grown {
+			t.Errorf("%v with %v: grown is %v", c.a, c.b, grown)
+		}
+		check(t, "united", a, c.want...)
+		check(t, "the other", b, c.b...)
+		a.Add(5)
+		check(t, "the other, afterwards", b, c.b...)
+	}
+	s := setOf[uint](1, 100)
+	if s.Unite(s) {
+		t.Error("a set has grown by itself")
+	}
+}
+
+func TestUniteWithWordsOfNothing(t *testing.T) {
+	a, b := setOf[uint](1), setOf[uint](1, 100)
+	b.Remove(100)
+	if a.Unite(b) {
+		t.Error("grown by nothing")
+	}
+	check(t, "united", a, 1)
+}
+
+func TestAllGoesThroughACopy(t *testing.T) {
+	s := setOf[uint](1, 5, 100)
+	var got []uint
+	for n := range s.All() {
+		got = append(got, n)
+		s.Add(n + 1)
+		s.Add(n + 64)
+	}
+	if !slices.Equal(got, []uint{1, 5, 100}) {
+		t.Errorf("%v, want what was there at first", got)
+	}
+	for n := range s.All() {
+		if n != 1 {
+			t.Error("gone on behind a break")
+		}
+		break
+	}
+}
+
+func TestAgainstMap(t *testing.T) {
+	r := rand.New(rand.NewSource(1))
+	var s Set[uint16]
+	has := map[uint16]bool{}
+	for range 2000 {
+		n := uint16(r.Intn(300))
+		if r.Intn(3) == 0 {
+			s.Remove(n)
+			delete(has, n)
+		} else if s.Add(n) == has[n] {
+			t.Fatalf("Add(%d), where its being there is %v", n, has[n])
+		} else {
+			has[n] = true
+		}
+	}
+	var want []uint16
+	for n := range uint16(300) {
+		if has[n] {
+			want = append(want, n)
+		}
+	}
+	check(t, "in the end", &s, want...)
+}

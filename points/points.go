@@ -19,7 +19,7 @@ func Analyze(file string, c api.Config) (api.Result, api.Error) {
 		return api.Result{}, err
 	}
 	names := namesOf(list)
-	g := newGraph(list, names)
+	g := newGraph(list, names, c)
 	g.solve()
 	return api.Result{Text: rows.Write(g.rows(names)), Unions: g.unions}, api.Error{}
 }

@@ -47,6 +47,41 @@ func (s *Set[T]) Unite(other *Set[T]) bool {
 	return grown
 }
 
+// Meet takes all numbers out that are not in another set.
+func (s *Set[T]) Meet(other *Set[T]) {
+	for at := range s.words {
+		s.words[at] &= other.word(at)
+	}
+}
+
+// Without gives a new set: all numbers of this one that are not in another.
+func (s *Set[T]) Without(other *Set[T]) Set[T] {
+	words := slices.Clone(s.words)
+	for at := range words {
+		words[at] &^= other.word(at)
+	}
+	return Set[T]{words}
+}
+
+// Has tells whether a number is there.
+func (s *Set[T]) Has(n T) bool {
+	at, bit := place(n)
+	return s.word(at)&bit != 0
+}
+
+// Equal tells whether another set has the same numbers.
+func (s *Set[T]) Equal(other *Set[T]) bool {
+	for at := range max(len(s.words), len(other.words)) {
+		if s.word(at) != other.word(at) {
+			return false
+		}
+	}
+	return true
+}
+
+// Empty tells whether no number is there.
+func (s *Set[T]) Empty() bool { return s.Equal(&Set[T]{}) }
+
 // All gives the numbers in their order. It goes through a copy, so that the set
 // may be written into meanwhile: what comes in then is not given.
 func (s *Set[T]) All() iter.Seq[T] {
@@ -60,6 +95,14 @@ func (s *Set[T]) All() iter.Seq[T] {
 			}
 		}
 	}
+}
+
+// word gives a word as it is, or would be if there were room for it.
+func (s *Set[T]) word(at int) uint64 {
+	if at < len(s.words) {
+		return s.words[at]
+	}
+	return 0
 }
 
 // reach makes room for that many words.

@@ -89,6 +89,63 @@ func TestUniteWithWordsOfNothing(t *testing.T) {
 	check(t, "united", a, 1)
 }
 
+func TestMeetAndWithout(t *testing.T) {
+	for _, c := range []struct{ a, b, both, rest []uint }{
+		{nil, nil, nil, nil},
+		{nil, []uint{3}, nil, nil},
+		{[]uint{3}, nil, nil, []uint{3}},
+		{[]uint{3, 5}, []uint{5, 7}, []uint{5}, []uint{3}},
+		{[]uint{3, 70}, []uint{3}, []uint{3}, []uint{70}},
+		{[]uint{3}, []uint{3, 70}, []uint{3}, nil},
+		{[]uint{70, 200}, []uint{70, 201}, []uint{70}, []uint{200}},
+	} {
+		a, b := setOf(c.a...), setOf(c.b...)
+		rest := a.Without(b)
+		check(t, "without", &rest, c.rest...)
+		rest.Add(9)
+		check(t, "the set, afterwards", a, c.a...)
+		a.Meet(b)
+		check(t, "met", a, c.both...)
+		check(t, "the other", b, c.b...)
+	}
+}
+
+func TestHas(t *testing.T) {
+	s := setOf[uint](1, 64, 200)
+	for n := range uint(300) {
+		if s.Has(n) != (n == 1 || n == 64 || n == 200) {
+			t.Errorf("Has(%d) is %v", n, s.Has(n))
+		}
+	}
+}
+
+func TestEqual(t *testing.T) {
+	long := setOf[uint](1, 200)
+	long.Remove(200)
+	emptied := setOf[uint](200)
+	emptied.Remove(200)
+	for _, c := range []struct {
+		a, b *Set[uint]
+		want bool
+	}{
+		{setOf[uint](), setOf[uint](), true},
+		{setOf[uint](), emptied, true},
+		{setOf[uint](1), long, true},
+		{setOf[uint](1, 70), setOf[uint](1, 70), true},
+		{setOf[uint](1), setOf[uint](), false},
+		{setOf[uint](1), setOf[uint](1, 70), false},
+		{setOf[uint](1, 71), setOf[uint](1, 70), false},
+		{setOf[uint](2, 70), setOf[uint](1, 70), false},
+	} {
+		if c.a.Equal(c.b) != c.want || c.b.Equal(c.a) != c.want {
+			t.Errorf("%v and %v: not %v", c.a, c.b, c.want)
+		}
+	}
+	if !setOf[uint]().Empty() || !emptied.Empty() || setOf[uint](0).Empty() || setOf[uint](200).Empty() {
+		t.Error("what is empty is told wrongly")
+	}
+}
+
 func TestAllGoesThroughACopy(t *testing.T) {
 	s := setOf[uint](1, 5, 100)
 	var got []uint
